@@ -1,0 +1,1 @@
+"""Lenthaste: workers with ranks that share tools and lend their haste."""
