@@ -39,6 +39,17 @@ def place_of(shop, k):
     return shop[2][k][0]
 
 
+def own_rank(shop, k):
+    """Worker k's own rank, whatever it is lent."""
+    return shop[0][k][0]
+
+
+def copied(workers):
+    """The workers in a new list, each with a new plan."""
+    # Two workers may have been handed in with one list as their plan.
+    return [(rank, start, list(plan)) for rank, start, plan in workers]
+
+
 def begun(workers):
     """The shop in which nothing is done yet, at tick 0."""
     if not 1 <= len(workers) <= MOST_WORKERS:
@@ -47,15 +58,17 @@ def begun(workers):
     for worker in workers:
         check_worker(worker, ranks)
         ranks.append(worker[0])
-    # Two workers may have been handed in with one list as their plan.
-    own = [(rank, start, list(plan)) for rank, start, plan in workers]
-    return own, 0, [(0, 0) for _ in workers]
+    return copied(workers), 0, [(0, 0) for _ in workers]
+
+
+def has_steps(shop, k):
+    """Whether worker k has steps left."""
+    return place_of(shop, k) < len(plan_of(shop, k))
 
 
 def is_there(shop, k):
-    """Whether worker k has begun by now and has steps left."""
-    _, start, plan = shop[0][k]
-    return start <= shop[1] and place_of(shop, k) < len(plan)
+    """Whether worker k's start is not above now and steps are left to it."""
+    return shop[0][k][1] <= shop[1] and has_steps(shop, k)
 
 
 def there(shop):
@@ -75,6 +88,6 @@ def held(shop):
 def step_of(shop, k):
     """The step at worker k's place, or None behind its last one."""
     check_number(shop, k)
-    plan = plan_of(shop, k)
-    place = place_of(shop, k)
-    return plan[place] if place < len(plan) else None
+    if not has_steps(shop, k):
+        return None
+    return plan_of(shop, k)[place_of(shop, k)]

@@ -1,11 +1,29 @@
 """Workers and shops that several tests use, and what they are checked with."""
 
+import random
+
 from lenthaste import errors
 
 CLASSES = [errors.TooMany, errors.BadWorker, errors.BadRank, errors.BadStart, errors.BadPlan, errors.NoWorker]
 
 # What is no number, where one from 1 to 9 would do.
 NO_NUMBERS = [True, False, None, "1", "", [1], (1,), [], ()]
+
+# What is no worker's number in a shop of three.
+NO_WORKERS = [
+    -1, -2, -3, 3, 4, 100, 10 ** 30, -10 ** 30, True, False, None,
+    "", "0", "1", [], [0], (), (0,), {}, {0: 1}, 0.0, 1.0, 0.5,
+]
+
+# Workers that are refused, and with what.
+WRONG_WORKERS = [
+    (errors.TooMany, []),
+    (errors.TooMany, [(k + 1, 0, [("work", 1)]) for k in range(9)]),
+    (errors.BadWorker, [[1, 0, [("work", 1)]]]),
+    (errors.BadRank, [(1, 0, [("work", 1)]), (1, 0, [("work", 1)])]),
+    (errors.BadStart, [(1, 1001, [("work", 1)])]),
+    (errors.BadPlan, [(1, 0, [("hold", 3), ("work", 1)])]),
+]
 
 
 def worker(rank=1, start=0, plan=None):
@@ -65,9 +83,65 @@ TRACE = [
 ]
 
 
+# Who works at each tick of the trace.
+TRACE_WORKED = [0, 0, 1, 0, 1, 0, 0, 2, 2, 2, None]
+
+
 def trace_shops():
     """The shops of the trace, by now."""
     return [(trace_workers(), now, list(row[0])) for now, row in enumerate(TRACE)]
+
+
+def lending_shop(now=20, free_rank=8):
+    """A shop in which four wait: 3 for 2, 2 for 1, and both 1 and 4 for 0."""
+    workers = [
+        (2, 0, [("hold", 3), ("work", 5), ("free", 3)]),
+        (4, 0, [("hold", 2), ("work", 1), ("hold", 3), ("work", 1), ("free", 2), ("free", 3)]),
+        (7, 0, [("hold", 1), ("work", 1), ("hold", 2), ("work", 1), ("free", 1), ("free", 2)]),
+        (5, 0, [("hold", 1), ("work", 2), ("free", 1)]),
+        (3, 0, [("hold", 3), ("work", 1), ("free", 3)]),
+        (9, 50, [("hold", 3), ("work", 1), ("free", 3)]),
+        (free_rank, 0, [("hold", 9), ("work", 1), ("free", 9)]),
+        (1, 0, [("work", 1)]),
+    ]
+    return (workers, now, [(1, 2), (2, 0), (2, 0), (0, 0), (0, 0), (0, 0), (0, 0), (1, 0)])
+
+
+def turned(shop):
+    """The shop with its workers the other way round."""
+    workers, now, spots = shop
+    return (workers[::-1], now, spots[::-1])
+
+
+def own_plans(workers):
+    """The workers with no list in common with those."""
+    return [(rank, start, list(plan)) for rank, start, plan in workers]
+
+
+def random_plan(dice, tools):
+    """A plan of a few steps, which holds some of the tools."""
+    plan, mine = [], []
+    for _ in range(dice.randint(1, 9)):
+        more = [tool for tool in tools if not mine or tool > max(mine)]
+        word = dice.choice(["work", "hold", "hold", "free"])
+        if word == "hold" and more:
+            mine.append(dice.choice(more))
+            plan.append(("hold", mine[-1]))
+        elif word == "free" and mine:
+            plan.append(("free", mine.pop(dice.randrange(len(mine)))))
+        else:
+            plan.append(("work", dice.randint(1, 3)))
+    dice.shuffle(mine)
+    return plan + [("free", tool) for tool in mine]
+
+
+def random_workers(seed, most=7):
+    """Some workers of ranks from 2 on that share a few tools, the same by seed."""
+    dice = random.Random(seed)
+    many = dice.randint(1, most)
+    ranks = dice.sample(range(2, 20), many)
+    tools = sorted(dice.sample(range(10), dice.randint(1, 4)))
+    return [(rank, dice.randint(0, 12), random_plan(dice, tools)) for rank in ranks]
 
 
 def refusal(function, *given):

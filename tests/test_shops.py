@@ -2,13 +2,9 @@ import unittest
 
 from lenthaste.errors import NoWorker
 from lenthaste.shops import begun, held, step_of, there
-from tests.samples import TRACE, check_refused, lists_in, picture, told_kinds, trace_shops, trace_workers, worker
-
-# What is no worker's number in a shop of three.
-NO_WORKERS = [
-    -1, -2, -3, 3, 4, 100, 10 ** 30, -10 ** 30, True, False, None,
-    "", "0", "1", [], [0], (), (0,), {}, {0: 1}, 0.0, 1.0, 0.5,
-]
+from tests.samples import (
+    NO_WORKERS, TRACE, check_refused, lists_in, picture, told_kinds, trace_shops, trace_workers, worker,
+)
 
 
 def all_read(shop):
